@@ -1,0 +1,1 @@
+"""Galleywork: a page setter that breaks lines and pages at least cost."""

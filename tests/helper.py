@@ -83,3 +83,30 @@ class Dice:
     def pick(self, row):
         """An item of a row."""
         return row[self.below(len(row))]
+
+
+SIGNS = (
+    ("-", 2, 4, 0), (".", 2, 4, 0), ("0", 2, 4, 0), ("1", 2, 4, 0), ("2", 2, 4, 0), ("3", 2, 4, 0), ("4", 2, 4, 0),
+    ("5", 2, 4, 0), ("6", 2, 4, 0), ("7", 2, 4, 0), ("8", 2, 4, 0), ("9", 2, 4, 0), ("a", 3, 4, 0), ("b", 4, 4, 0),
+)
+FONT = {"name": "f", "above": 5, "below": 2, "gap": (2, 1, 1), "signs": SIGNS, "kerns": (("a", "b", -1),), "joins": ()}
+SIZE = {
+    "font": "f", "axis": 2, "bar": 1, "space": 1, "up": 3, "down": 2, "wide": 2, "thin": 1, "rootwide": 3,
+    "brackets": (),
+}
+STYLE = {
+    "name": "par", "font": "f", "strong": "f", "left": 1, "measure": 18, "indent": 0, "align": "full",
+    "ahead": (0, 0, 0), "between": (0, 0, 0),
+}
+NAMES = ("back", "caption", "cell", "display", "head", "item", "note", "par", "quote")
+
+
+def told(row, **changes):
+    """A told font, size or style with changes, by the names of its fields."""
+    assert set(changes) <= set(row)
+    return tuple({**row, **changes}.values())
+
+
+def told_styles(**changes):
+    """The nine told styles; each change names a style and gives a dict of the fields that it changes."""
+    return tuple(told(STYLE, **{"name": name, **changes.get(name, {})}) for name in NAMES)

@@ -112,6 +112,7 @@ class CheckTest(Case):
         signs = SIGNS + (("ba", 4, 4, 0),)
         self.good(signs=signs, joins=(("a", "b", "ba"), ("b", "a", "ba"), ("ba", "a", "b")))
         self.good(joins=(("a", "b", "1"), ("b", "0", "b")))
+        self.good(joins=(("a", "a", "b"), ("a", "b", "a")))
         self.bad("join", signs=signs, joins=(("a", "ba", "b"),))
         self.bad("join", joins=(("a", "b", "ba"),))
         self.bad("join", joins=(("c", "b", "a"),))

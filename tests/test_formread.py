@@ -39,6 +39,7 @@ FORMS = (
     ("", row()),
     ("a", row("a")),
     ("ab1+", row("ab1+")),
+    ("over root", row("overroot")),
     (" a  b\n", row("ab")),
     ("{}", row(row())),
     ("{a}b{{c}}", row(row("a"), "b", row(row("c")))),

@@ -31,7 +31,7 @@ class BraceTest(Case):
 
     def test_open(self):
         for text, line, column in (
-            ("{", 1, 1), ("a{", 1, 2), ("{{", 1, 1), ("{}{", 1, 3), ("{}\n {{}", 2, 2), ("{{}{}", 1, 1), ("{a}{b{c}", 1, 4),
+            ("{", 1, 1), ("a{", 1, 2), ("{{", 1, 1), ("a{\n\n {", 1, 2), ("{\n}\n{ {}{", 3, 1), ("{}{", 1, 3), ("{}\n {{}", 2, 2), ("{{}{}", 1, 1), ("{a}{b{c}", 1, 4),
         ):
             with self.subTest(text):
                 self.refused(BadText(line, column, "open"), check_braces, tokenize(text))

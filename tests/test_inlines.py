@@ -24,6 +24,7 @@ FORMS = (
     ("", ()),
     ("ab1.", (word("ab1."),)),
     ("a b", (word("a"), GAP, word("b"))),
+    ("strong note gap", (word("strong"), GAP, word("note"), GAP, word("gap"))),
     (" a\nb ", (GAP, word("a"), GAP, word("b"), GAP)),
     ("a~b", (word("a"), TIE, word("b"))),
     ("a~ ~b", (word("a"), TIE, GAP, TIE, word("b"))),
@@ -196,7 +197,7 @@ class TrimTest(Case):
             ((), ()), ((GAP,), ()), ((GAP, GAP), ()), ((a,), (a,)), ((GAP, a), (a,)), ((a, GAP), (a,)),
             ((GAP, GAP, a, GAP, a, GAP, GAP), (a, GAP, a)), ((TIE, GAP), (TIE,)), ((GAP, CUT, GAP), (CUT,)),
             ((GAP, strong, GAP), (strong,)), ((GAP, ("mark", "a"), GAP), (("mark", "a"),)),
-            ((HYPH, GAP, TIE), (HYPH, GAP, TIE)),
+            ((HYPH, GAP, TIE), (HYPH, GAP, TIE)), ((word("gap"), GAP, word("gap")), (word("gap"), GAP, word("gap"))),
         ):
             with self.subTest(inlines):
                 self.assertEqual(self.answer(trimmed, inlines), expected)

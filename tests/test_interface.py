@@ -1,5 +1,6 @@
 """The interface: names, arguments, and the files in which functions and classes are defined."""
 
+import ast
 import importlib
 import inspect
 import pathlib
@@ -100,6 +101,9 @@ class InterfaceTest(unittest.TestCase):
                 lines = (FOLDER / name).read_text(encoding="ascii").split("\n")
                 self.assertLessEqual(len(lines) - 1, 399)
                 self.assertLessEqual(max(len(line) for line in lines), 120)
+                for node in ast.walk(ast.parse("\n".join(lines))):
+                    if isinstance(node, ast.FunctionDef):
+                        self.assertLessEqual(node.end_lineno - node.lineno + 1, 40, node.name)
 
 
 if __name__ == "__main__":

@@ -36,6 +36,12 @@ class DefinitionTest(Case):
             with self.subTest(text):
                 self.assertEqual(outcome(text), expected)
 
+    def test_behind_a_group(self):
+        self.assertEqual(outcome("{a}\\let\\x0{b}\\strong{{\\x}}\\let\\x0{c}\\x"), "{a}\\strong{{b}}c")
+
+    def test_words_are_no_names(self):
+        self.assertEqual(outcome("\\let\\x0{a}let x{let\\x}head"), "let x{leta}head")
+
     def test_the_blanks_around_a_definition_stay(self):
         self.assertEqual([token[0] for token in expand(tokenize("b \\let\\x0{a} c"))],
                          ["word", "blank", "blank", "word"])
@@ -209,12 +215,13 @@ class RefusalTest(Case):
         for text, line, column, what in (
             ("{\\let\\x0{a}}", 1, 2, "place"), ("\\let\\x0{\\let\\y0{a}}", 1, 9, "place"),
             ("\\let\\x1{#1}\\x{\\let\\y0{a}}", 1, 15, "place"), ("\\strong{\n\\let}", 2, 1, "place"),
-            ("\\let\\x0{{\\let\\y0{a}}}", 1, 10, "place"),
+            ("\\let\\x0{{\\let\\y0{a}}}", 1, 10, "place"), ("{a}{\\let\\x0{b}}", 1, 5, "place"),
+            ("\\let\\x0{{}\\let\\y0{a}}", 1, 11, "place"),
             ("\\let", 1, 1, "name"), ("a\\let ", 1, 2, "name"), ("\\let x0{a}", 1, 1, "name"),
             ("\\let{\\x}0{a}", 1, 1, "name"), ("\\let\n\n\\x0{a}", 1, 1, "name"), ("\\let0{a}", 1, 1, "name"),
             ("\\let\\-0{a}", 1, 1, "name"),
             ("\\let\\let0{a}", 1, 5, "reserved"), ("\\let \\head0{a}", 1, 6, "reserved"),
-            ("\\let\\x", 1, 1, "digit"), ("\\let\\x{a}", 1, 1, "digit"), ("\\let\\x10{a}", 1, 1, "digit"),
+            ("\\let\\x", 1, 1, "digit"), ("\\let\\x{a}", 1, 1, "digit"), ("\\let\\x10{a}", 1, 1, "digit"), ("\\let\\x12{a}", 1, 1, "digit"),
             ("\\let\\x a{b}", 1, 1, "digit"), ("\\let\\x ", 1, 1, "digit"), ("\\let\\x\n\n0{a}", 1, 1, "digit"),
             ("\\let\\x#1{a}", 1, 1, "digit"), ("\\let\\x00{a}", 1, 1, "digit"), ("\\let\\x-{a}", 1, 1, "digit"),
             ("\\let\\x\\let0{a}", 1, 1, "digit"),

@@ -31,6 +31,7 @@ FORMS = (
     ("a\n\nb", [("par", A), ("par", B)]),
     ("a \n \n\n b", [("par", A), ("par", B)]),
     ("a\nb", [("par", (("word", "a"), GAP, ("word", "b")))]),
+    ("head newpage", [("par", (("word", "head"), GAP, ("word", "newpage")))]),
     ("\\head{a}", [("head", A)]),
     ("\\item{ a }", [("item", A)]),
     ("\\quote{a}b", [("quote", A), ("par", B)]),
@@ -88,7 +89,8 @@ class BlockTest(Case):
         self.check(("a\\strong{b\n\nc}", 1, 11, "place"), ("a\\strong{\\head{b}}", 1, 10, "place"))
 
     def test_a_dollar_makes_no_difference(self):
-        self.check(("$a\n\nb$", 1, 1, "formula"), ("$a\\head{b}$", 1, 1, "formula"), ("$a\\newpage", 1, 1, "formula"))
+        self.check(("$a\n\nb$", 1, 1, "formula"), ("$a\\head{b}$", 1, 1, "formula"), ("$a\\newpage", 1, 1, "formula"),
+                   ("${\\head{b}}", 1, 1, "formula"), ("${a\n\nb}", 1, 1, "formula"), ("${\\head{b}}$", 1, 3, "place"))
 
     def test_groups(self):
         for name in ("head", "item", "quote", "display"):

@@ -3,6 +3,7 @@
 import re
 import unittest
 
+from galleywork.chars import LETTERS, WORD_CHARS
 from galleywork.errors import BadText
 from galleywork.tokens import SIZE_LIMIT, size_of, tokenize, written
 from helper import Case, Dice, tokens_of
@@ -20,6 +21,16 @@ class TokenTest(Case):
 
     def test_empty(self):
         self.assertEqual(self.answer(tokenize, ""), [])
+
+    def test_all_word_characters(self):
+        self.assertEqual(tokenize(WORD_CHARS), [("word", WORD_CHARS, 1, 1)])
+        for char in WORD_CHARS:
+            self.assertEqual(tokenize(char), [("word", char, 1, 1)])
+
+    def test_all_letters(self):
+        self.assertEqual(tokenize("\\" + LETTERS), [("name", LETTERS, 1, 1)])
+        for char in LETTERS:
+            self.assertEqual(tokenize("\\" + char), [("name", char, 1, 1)])
 
     def test_each_kind(self):
         for text, expected in (

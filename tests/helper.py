@@ -4,6 +4,15 @@ import copy
 import unittest
 
 from galleywork import errors
+from galleywork.book import Book
+from galleywork.formboxes import formula_box, note_mark
+from galleywork.maths import MathSize
+from galleywork.numbering import resolve
+from galleywork.reading import read_text
+from galleywork.shaping import word_box
+from galleywork.sheet import Style
+from galleywork.solids import solids_of
+from galleywork.strip import Strip
 from galleywork.tokens import tokenize
 
 FIELDS = {
@@ -24,6 +33,10 @@ FIELDS = {
 }
 
 
+# What a line task remembers of the question before may change.
+REMEMBERED = ("_asked", "_lines")
+
+
 def fields_of(error):
     """The class name and the fields of an error of the package."""
     name = type(error).__name__
@@ -35,6 +48,18 @@ def tokens_of(text):
     return [token[:2] for token in tokenize(text)]
 
 
+def laid_open(value):
+    """A value with all objects in it told by their classes and what they hold, to be compared."""
+    if isinstance(value, (list, tuple)):
+        return type(value)([laid_open(item) for item in value])
+    if isinstance(value, dict):
+        return {key: laid_open(item) for key, item in value.items()}
+    if hasattr(value, "__dict__") and not callable(value):
+        held = {name: laid_open(item) for name, item in vars(value).items() if name not in REMEMBERED}
+        return (type(value).__name__, held)
+    return value
+
+
 class Case(unittest.TestCase):
     """A test case that looks closely at errors and answers."""
 
@@ -42,7 +67,7 @@ class Case(unittest.TestCase):
 
     def refused(self, error, call, *args, **named):
         """The call raises just this error, and changes none of its arguments."""
-        before = copy.deepcopy((args, named))
+        before = laid_open(copy.deepcopy((args, named)))
         with self.assertRaises(errors.GalleyError) as caught:
             call(*args, **named)
         self.assertEqual(fields_of(caught.exception), fields_of(error))
@@ -50,12 +75,11 @@ class Case(unittest.TestCase):
         self.assertIsInstance(caught.exception, ValueError)
         others = [name for name in FIELDS if isinstance(caught.exception, getattr(errors, name))]
         self.assertEqual(others, [type(error).__name__])
-        self.assertEqual(args, before[0])
-        self.assertEqual(named, before[1])
+        self.assertEqual(laid_open((args, named)), before)
 
     def answer(self, call, *args):
         """Calls twice, spoils the first answer between, and returns the answer, which has to be the same."""
-        before = copy.deepcopy(args)
+        before = laid_open(copy.deepcopy(args))
         first = call(*args)
         kept = copy.deepcopy(first)
         if isinstance(first, list):
@@ -64,8 +88,8 @@ class Case(unittest.TestCase):
         elif isinstance(first, dict):
             first.clear()
             first["spoilt"] = True
-        self.assertEqual(call(*args), kept)
-        self.assertEqual(args, before)
+        self.assertEqual(laid_open(call(*args)), laid_open(kept))
+        self.assertEqual(laid_open(args), before)
         return kept
 
 
@@ -110,3 +134,89 @@ def told(row, **changes):
 def told_styles(**changes):
     """The nine told styles; each change names a style and gives a dict of the fields that it changes."""
     return tuple(told(STYLE, **{"name": name, **changes.get(name, {})}) for name in NAMES)
+
+
+def told_font(name, signs, *, above=20, below=10, gap=(2, 1, 1), kerns=(), joins=()):
+    """A told font; signs is a dict from signs to their widths, or to the tuples (width, height, depth)."""
+    sizes = {char: (2, 4, 0) for char in "-.0123456789"}
+    for sign, size in signs.items():
+        sizes[sign] = (size, 4, 0) if isinstance(size, int) else size
+    rows = tuple((sign, *sizes[sign]) for sign in sorted(sizes))
+    return (name, above, below, gap, rows, tuple(sorted(kerns)), tuple(sorted(joins)))
+
+
+def math_of(**changes):
+    """Measures of formulas of size 0, with changes."""
+    return MathSize(0, told(SIZE, **changes))
+
+
+def style_of(**changes):
+    """A style, with changes."""
+    return Style(told(STYLE, **changes))
+
+
+class StandIn:
+    """A works object without a sheet."""
+
+    def __init__(self, book):
+        self.book = book
+
+    def word(self, font, letters, kind):
+        return word_box(self.book.font_of(font), letters, kind)
+
+    def formula(self, row):
+        return formula_box(self.book, row, 0)
+
+    def mark(self, n):
+        return note_mark(self.book, n)
+
+
+def works_of(*fonts, patterns=(), exceptions=(), smaller=None, **size):
+    """A stand-in for a works object with a book of told fonts.
+
+    size changes the measures of all formulas; smaller gives the font of the sizes 1 and 2, if it is another one.
+    """
+    row = {**SIZE, "font": fonts[0][0], **size}
+    sizes = (told(row), *(told({**row, "font": smaller or row["font"]}),) * 2)
+    return StandIn(Book(fonts, sizes, patterns=patterns, exceptions=exceptions))
+
+
+def row_of(text):
+    """The row of a formula without commands."""
+    return ("row", tuple(("sign", char) for char in text))
+
+
+def ways_from(task, state):
+    """All ways from a state, as tuples of states, in the order of the steps; for small tasks."""
+    if task.is_end(state):
+        return [(state,)]
+    found = []
+    for _, after in task.steps(state):
+        found.extend((state, *way) for way in ways_from(task, after) if (state, *way) not in found)
+    return found
+
+
+def plain_cost(task, way):
+    """The cost of a way, by the words of the document."""
+    return sum(min(cost for cost, after in task.steps(one) if after == two) for one, two in zip(way, way[1:]))
+
+
+def random_rows(dice, count, costs, many=4):
+    """The rows of a table task with some steps from each state."""
+    rows = []
+    for k in range(count - 1):
+        steps = dice.below(many)
+        rows.append([(dice.pick(costs), k + 1 + dice.below(count - 1 - k)) for _ in range(steps)])
+    return rows + [[]]
+
+
+def inlines_of(text):
+    """The resolved inlines of a text that is one paragraph."""
+    block, = resolve(read_text(text))
+    return block[1]
+
+
+def strip_of(works, style, text, measure=None):
+    """The strip of a text that is one paragraph, or of no solids for the empty text."""
+    solids, joints, _ = solids_of(style, inlines_of(text) if text else ())
+    return Strip(works, style, style.measure if measure is None else measure, solids, joints)

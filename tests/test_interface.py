@@ -18,7 +18,35 @@ FUNCTIONS = {
     "writing": {"write_inlines": "(inlines)", "write_blocks": "(blocks)"},
     "numbering": {"label_numbers": "(blocks)", "resolve": "(blocks)", "notes_of": "(block)", "marks_of": "(inlines)"},
     "fontcheck": {"check_font": "(told)", "good_triple": "(triple)"},
+    "shaping": {"shape": "(font, letters)", "width_of": "(font, signs)", "word_box": "(font, letters, kind='word')"},
+    "boxes": {
+        "sign_box": "(font, sign, letters)", "bar_box": "(w, h, d)", "grow_box": "(name, w, h, d)", "is_leaf": "(box)",
+        "hull": "(kind, parts)", "beside": "(kind, *boxes, gap=0)", "stacked": "(kind, width, *boxes)",
+        "leaves": "(box, x, y)", "rect": "(box, x, y)",
+    },
+    "formkinds": {"item_kind": "(tree)", "kinds_of": "(items)", "gap_between": "(math, left, right)"},
+    "formparts": {
+        "row_box": "(m, boxes, kinds)", "over_box": "(m, a, b)", "script_box": "(m, base, up, down)", "root_box": "(m, a)",
+    },
+    "formgrown": {"fence_box": "(m, left, a, right)", "grid_box": "(m, rows)"},
+    "formboxes": {
+        "formula_box": "(book, tree, size)", "missing_sign": "(book, tree, size)", "note_mark": "(book, number)",
+    },
+    "badness": {"badness": "(slack, room)", "line_class": "(slack, bad)"},
+    "ways": {"reached": "(task)", "togo": "(task)", "solve": "(task)", "way_cost": "(task, way)"},
+    "judging": {"judge": "(task, way, paper)"},
+    "solids": {"solids_of": "(style, inlines)", "item_inlines": "(n, inlines)", "note_inlines": "(n, inlines)"},
+    "content": {"pieces_of": "(solids, joints, i, j, hyphen)", "pieces_glue": "(works, pieces)"},
+    "places": {
+        "word_points": "(book, solids, joints)", "chunks": "(joints, count)",
+        "place_kinds": "(works, style, measure, solids, joints)",
+    },
+    "linetask": {"line_cost": "(strip, i, j, glue)"},
+    "evened": {"even_gaps": "(glues, slack, stretching)", "gap_widths": "(strip, i, j)", "line_box": "(strip, i, j)"},
+    "paragraphs": {"set_paragraph": "(works, style, measure, solids, joints, block)"},
+    "displays": {"set_display": "(works, style, row, block)"},
 }
+TASK_METHODS = {"first": "(self)", "is_end": "(self, state)", "steps": "(self, state)", "rank": "(self, state)"}
 METHODS = {
     ("macros", "Macros"): {
         "__init__": "(self)", "defined": "(self, name)", "arity": "(self, number)", "body": "(self, number)",
@@ -45,6 +73,22 @@ METHODS = {
         "__init__": "(self, book, measure, height, styles, *, floats=1, rule=1, float_gap=1, column_gap=1)",
         "style_of": "(self, name)", "changed": "(self, **changes)",
     },
+    ("ways", "Task"): {},
+    ("ways", "TableTask"): {"__init__": "(self, rows)", **TASK_METHODS},
+    ("strip", "Strip"): {
+        "__init__": "(self, works, style, measure, solids, joints)", "kind": "(self, k)", "places": "(self)",
+        "content": "(self, i, j)", "glue": "(self, i, j)",
+    },
+    ("linetask", "LineTask"): {"__init__": "(self, strip)", **TASK_METHODS, "lines_from": "(self, i)"},
+    ("quicklines", "QuickLineTask"): {"__init__": "(self, strip)", "lines_from": "(self, i)"},
+    ("paragraphs", "Paragraph"): {"__init__": "(self, way, paper, ends, boxes)"},
+    ("displays", "DisplayTask"): {
+        "__init__": "(self, works, style, row)", **TASK_METHODS, "piece_box": "(self, i, j)",
+    },
+}
+BASES = {
+    ("ways", "TableTask"): ("ways", "Task"), ("linetask", "LineTask"): ("ways", "Task"),
+    ("quicklines", "QuickLineTask"): ("linetask", "LineTask"), ("displays", "DisplayTask"): ("ways", "Task"),
 }
 ERRORS = {
     "BadText": "(line, column, what)", "TooLong": "(what)", "BadFont": "(name, what)", "BadPattern": "(pattern)",
@@ -83,6 +127,11 @@ class InterfaceTest(unittest.TestCase):
                     else:
                         self.assertEqual(str(inspect.signature(getattr(found, method))), arguments)
                         self.assertEqual(isinstance(own, staticmethod), not arguments.startswith("(self"))
+
+    def test_bases(self):
+        for (file, name), (base_file, base) in BASES.items():
+            with self.subTest(name):
+                self.assertEqual(vars(module(file))[name].__bases__, (vars(module(base_file))[base],))
 
     def test_errors(self):
         for name, arguments in {**ERRORS, "GalleyError": None}.items():

@@ -12,7 +12,7 @@ def label_numbers(blocks):
         if block[0] == "head":
             last_head = own
         number = own if block[0] in COUNTED else last_head
-        for inlines in _insides(block):
+        for inlines in insides_of(block):
             found, notes = _labels_in(inlines, number, notes)
             for name, label_number in found:
                 numbers[name] = label_number
@@ -27,7 +27,7 @@ def resolve(blocks):
 
 def notes_of(block):
     """Returns the list of the pairs (n, inlines) of the notes of a resolved block."""
-    return [note for inlines in _insides(block) for note in _notes_in(inlines)]
+    return [note for inlines in insides_of(block) for note in _notes_in(inlines)]
 
 
 def marks_of(inlines):
@@ -39,6 +39,16 @@ def marks_of(inlines):
         elif inline[0] == "strong":
             words.extend(marks_of(inline[1]))
     return words
+
+
+def insides_of(block):
+    """Returns the list of the tuples of inlines of a block, resolved or not, in their order."""
+    kind = block[0]
+    if kind == "display" or kind == "newpage":
+        return []
+    if kind == "table":
+        return [cell for row in block[2] for cell in row]
+    return [block[-1]]
 
 
 class Resolver:
@@ -96,16 +106,6 @@ def _own_numbers(blocks):
         else:
             numbers.append(items)
     return numbers
-
-
-def _insides(block):
-    """Returns the list of the tuples of inlines of a block, resolved or not, in their order."""
-    kind = block[0]
-    if kind == "display" or kind == "newpage":
-        return []
-    if kind == "table":
-        return [cell for row in block[2] for cell in row]
-    return [block[-1]]
 
 
 def _labels_in(inlines, number, notes):

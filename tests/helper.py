@@ -5,15 +5,17 @@ import unittest
 
 from galleywork import errors
 from galleywork.book import Book
+from galleywork.chars import WORD_CHARS
 from galleywork.formboxes import formula_box, note_mark
 from galleywork.maths import MathSize
 from galleywork.numbering import resolve
 from galleywork.reading import read_text
 from galleywork.shaping import word_box
-from galleywork.sheet import Style
+from galleywork.sheet import Sheet, Style
 from galleywork.solids import solids_of
 from galleywork.strip import Strip
 from galleywork.tokens import tokenize
+from galleywork.works import Works
 
 FIELDS = {
     "BadText": ("line", "column", "what"),
@@ -171,14 +173,19 @@ class StandIn:
         return note_mark(self.book, n)
 
 
-def works_of(*fonts, patterns=(), exceptions=(), smaller=None, **size):
-    """A stand-in for a works object with a book of told fonts.
+def book_of(*fonts, patterns=(), exceptions=(), smaller=None, **size):
+    """A book of told fonts.
 
     size changes the measures of all formulas; smaller gives the font of the sizes 1 and 2, if it is another one.
     """
     row = {**SIZE, "font": fonts[0][0], **size}
     sizes = (told(row), *(told({**row, "font": smaller or row["font"]}),) * 2)
-    return StandIn(Book(fonts, sizes, patterns=patterns, exceptions=exceptions))
+    return Book(fonts, sizes, patterns=patterns, exceptions=exceptions)
+
+
+def works_of(*fonts, patterns=(), exceptions=(), smaller=None, **size):
+    """A stand-in for a works object with the book of told fonts."""
+    return StandIn(book_of(*fonts, patterns=patterns, exceptions=exceptions, smaller=smaller, **size))
 
 
 def row_of(text):
@@ -220,3 +227,62 @@ def strip_of(works, style, text, measure=None):
     """The strip of a text that is one paragraph, or of no solids for the empty text."""
     solids, joints, _ = solids_of(style, inlines_of(text) if text else ())
     return Strip(works, style, style.measure if measure is None else measure, solids, joints)
+
+
+def demo_sheet(styles=None, **changes):
+    """The sheet of the example of the document, with changes of its styles and of its own."""
+    told_ones = told_styles(**{"par": {"indent": 2}, **(styles or {})})
+    row = {"measure": 20, "height": 30, **changes}
+    return Sheet(Book((told(FONT),), (told(SIZE),) * 3), row.pop("measure"), row.pop("height"), told_ones, **row)
+
+
+def _rich_font(name, above, below, by, kerns, joins):
+    """A told font with all word characters; by moves their sizes."""
+    signs = {}
+    for sign in list(WORD_CHARS) + sorted({new for _, _, new in joins}):
+        k = sum(map(ord, sign)) * 7 + by
+        signs[sign] = (2 + k % 4, k % (above + 1), k // 3 % (below + 1))
+    return told_font(name, signs, above=above, below=below, gap=(3, 2, 1), kerns=kerns, joins=joins)
+
+
+RICH_FONTS = (
+    _rich_font("f", 8, 3, 0, (("a", "b", -1), ("e", "-", -1), ("o", "n", 1), ("fi", "n", 1)),
+               (("f", "f", "ff"), ("f", "i", "fi"), ("ff", "i", "ffi"), ("t", "-", "t-"))),
+    _rich_font("m", 7, 3, 1, (), ()),
+    _rich_font("n", 5, 2, 2, (("a", "b", 1),), ()),
+    _rich_font("s", 9, 4, 3, (("a", "a", -1),), (("t", "t", "tt"),)),
+)
+RICH_SIZES = (
+    ("m", 2, 1, 1, 3, 2, 2, 1, 4, (("(", 4, 2), ("(", 9, 3), (")", 4, 2), (")", 9, 3), ("[", 6, 2))),
+    ("n", 1, 1, 1, 2, 1, 1, 1, 3, (("(", 3, 1), (")", 3, 1))),
+    ("n", 1, 1, 0, 1, 1, 1, 0, 2, ()),
+)
+RICH_STYLES = {
+    "back": {"font": "n", "left": 2, "measure": 40, "indent": 1, "align": "left", "ahead": (1, 2, 1), "between": (0, 1, 0)},
+    "caption": {"font": "n", "left": 6, "measure": 40, "indent": 2, "align": "centre"},
+    "cell": {"font": "n", "left": 3, "measure": 13, "indent": 1, "align": "right", "ahead": (2, 2, 1), "between": (1, 1, 1)},
+    "display": {"left": 4, "measure": 48, "indent": 5, "align": "left", "ahead": (3, 2, 2), "between": (1, 0, 1)},
+    "head": {"font": "s", "strong": "f", "measure": 58, "align": "left", "ahead": (6, 4, 3), "between": (1, 1, 0)},
+    "item": {"left": 8, "measure": 50, "indent": 3, "align": "full", "ahead": (1, 1, 1), "between": (0, 1, 0)},
+    "note": {"font": "n", "left": 5, "measure": 44, "indent": 2, "align": "full"},
+    "par": {"left": 1, "measure": 56, "indent": 6, "align": "full", "ahead": (2, 3, 1), "between": (1, 1, 1)},
+    "quote": {"left": 10, "measure": 40, "align": "centre", "ahead": (3, 3, 3), "between": (0, 2, 0)},
+}
+
+
+def rich_sheet(styles=None, **changes):
+    """A sheet with four fonts of all word characters, whose styles differ from each other, with changes."""
+    rows = {name: {"strong": "s", **row, **(styles or {}).get(name, {})} for name, row in RICH_STYLES.items()}
+    book = Book(RICH_FONTS, RICH_SIZES, patterns=("1na", "e1", "1ba", "a2b", ".ab1"), exceptions=("ta-ble", "abba"))
+    row = {"measure": 60, "height": 90, "floats": 2, "rule": 1, "float_gap": 2, "column_gap": 3, **changes}
+    return Sheet(book, row.pop("measure"), row.pop("height"), told_styles(**rows), **row)
+
+
+def blocks_of(text):
+    """The resolved blocks of a text."""
+    return resolve(read_text(text))
+
+
+def real_works(sheet=None):
+    """A works object for a sheet, the rich one if none is given."""
+    return Works(sheet or rich_sheet())

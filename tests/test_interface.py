@@ -45,8 +45,29 @@ FUNCTIONS = {
     "evened": {"even_gaps": "(glues, slack, stretching)", "gap_widths": "(strip, i, j)", "line_box": "(strip, i, j)"},
     "paragraphs": {"set_paragraph": "(works, style, measure, solids, joints, block)"},
     "displays": {"set_display": "(works, style, row, block)"},
+    "tables": {"table_rows": "(works, block, number)"},
+    "notes": {"note_rows": "(works, number, inlines, block)"},
+    "floats": {"float_row": "(works, block, number)"},
+    "build": {"build_matter": "(works, resolved)"},
+    "placed": {"page_box": "(sheet, matter, a, b, loose)", "page_boxes": "(sheet, matter, task, way)"},
+    "sound": {"sound": "(box)"},
+    "devwrite": {"device_text": "(pages)", "page_ink": "(pages)"},
+    "devread": {"draw_device": "(book, text)"},
+    "tails": {"common_tail": "(one, two)"},
+    "backmatter": {
+        "page_numbers": "(way)", "contents_of": "(matter, numbers)", "index_of": "(matter, numbers)",
+        "back_matter": "(works, resolved, contents, index)",
+    },
+    "setting": {
+        "page_task": "(sheet, matter)", "set_text": "(works, text, tails, back_tails)", "fresh": "(sheet, text)",
+    },
+    "listing": {"line_rows": "(page)", "show_page": "(number, page)", "show_pages": "(pages)"},
 }
 TASK_METHODS = {"first": "(self)", "is_end": "(self, state)", "steps": "(self, state)", "rank": "(self, state)"}
+WORKS_METHODS = {
+    "word": "(self, font, letters, kind)", "formula": "(self, row)", "mark": "(self, n)",
+    "paragraph": "(self, style, measure, solids, joints, block)", "display": "(self, row, block)",
+}
 METHODS = {
     ("macros", "Macros"): {
         "__init__": "(self)", "defined": "(self, name)", "arity": "(self, number)", "body": "(self, number)",
@@ -85,11 +106,45 @@ METHODS = {
     ("displays", "DisplayTask"): {
         "__init__": "(self, works, style, row)", **TASK_METHODS, "piece_box": "(self, i, j)",
     },
+    ("works", "Works"): {"__init__": "(self, sheet)", **WORKS_METHODS},
+    ("units", "Unit"): {"__init__": "(self, height, gap, cost, box, notes, marks, block)", "told": "(self)"},
+    ("units", "FloatUnit"): {"__init__": "(self, height, behind, box, marks, block, number)", "told": "(self)"},
+    ("units", "NoteLine"): {"__init__": "(self, height, opens, behind, box, marks, block, number)", "told": "(self)"},
+    ("units", "Matter"): {"__init__": "(self)", "told": "(self)"},
+    ("pagetask", "PageTask"): {
+        "__init__": "(self, units, floats, lines, *, height, floats_a_page=1, rule=1, float_gap=1)", **TASK_METHODS,
+        "page_glue": "(self, a, b)", "loose": "(self, b)", "page_cost": "(self, a, b)",
+    },
+    ("devread", "Machine"): {"__init__": "(self, book)", "__call__": "(self, line)", "ink": "(self)"},
+    ("kept", "Kept"): {
+        "__init__": "(self, sheet)", **WORKS_METHODS, "stand": "(self)", "back_to": "(self, stand)",
+        "worked_since": "(self, stand)",
+    },
+    ("tails", "Tails"): {"__init__": "(self, units, floats, lines, table)", "none": "()", "solved": "(self, task)"},
+    ("tails", "Solution"): {"__init__": "(self, way, paper, worked, tails)"},
+    ("setting", "Setting"): {},
+    ("galleys", "Galley"): {
+        "__init__": "(self, sheet, text='', *, kept=None)", "text": None, "page_count": None, "__iter__": "(self)",
+        "edit": "(self, at, *, cut=0, put='')", "put_text": "(self, text)", "undo": "(self)", "redo": "(self)",
+        "work": "(self)", "pages": "(self)", "papers": "(self)", "contents": "(self)", "index_rows": "(self)",
+        "device": "(self)", "held": "(self)", "hold": "(self, state)",
+    },
+    ("desk", "Desk"): {
+        "__init__": "(self, sheet)", "put": "(self, name, text)", "edit": "(self, name, at, *, cut=0, put='')",
+        "undo": "(self, name)", "redo": "(self, name)", "drop": "(self, name)", "galley": "(self, name)",
+        "names": "(self)", "batch": "(self, deeds)",
+    },
 }
 BASES = {
     ("ways", "TableTask"): ("ways", "Task"), ("linetask", "LineTask"): ("ways", "Task"),
     ("quicklines", "QuickLineTask"): ("linetask", "LineTask"), ("displays", "DisplayTask"): ("ways", "Task"),
+    ("pagetask", "PageTask"): ("ways", "Task"), ("kept", "Kept"): ("works", "Works"),
 }
+VALUES = {
+    ("tokens", "SIZE_LIMIT"): 6000, ("groups", "DEPTH_LIMIT"): 12, ("units", "MUST"): -1, ("units", "NEED"): 30000,
+    ("sheet", "STYLE_NAMES"): ("back", "caption", "cell", "display", "head", "item", "note", "par", "quote"),
+}
+CLASS_VALUES = {("devread", "Machine", "DEPTH"): 60, ("galleys", "Galley", "UNDO_LIMIT"): 20}
 ERRORS = {
     "BadText": "(line, column, what)", "TooLong": "(what)", "BadFont": "(name, what)", "BadPattern": "(pattern)",
     "BadMaths": "(size, what)", "BadSheet": "(what)", "NoSign": "(letter, block)", "TooWide": "(block)",
@@ -132,6 +187,14 @@ class InterfaceTest(unittest.TestCase):
         for (file, name), (base_file, base) in BASES.items():
             with self.subTest(name):
                 self.assertEqual(vars(module(file))[name].__bases__, (vars(module(base_file))[base],))
+
+    def test_values(self):
+        for (file, name), value in VALUES.items():
+            with self.subTest(name):
+                self.assertEqual(vars(module(file))[name], value)
+        for (file, owner, name), value in CLASS_VALUES.items():
+            with self.subTest(name):
+                self.assertEqual(vars(vars(module(file))[owner])[name], value)
 
     def test_errors(self):
         for name, arguments in {**ERRORS, "GalleyError": None}.items():

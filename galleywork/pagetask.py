@@ -19,6 +19,7 @@ class PageTask(Task):
         self.units = tuple(units)
         self.floats = tuple(floats)
         self.lines = tuple(lines)
+        self._end = (len(self.units), len(self.floats), len(self.lines))
         self._height = height
         self._most_floats = floats_a_page
         self._rule = rule
@@ -41,7 +42,7 @@ class PageTask(Task):
 
     def is_end(self, state):
         """Tells whether a state is the end."""
-        return state == (len(self.units), len(self.floats), len(self.lines))
+        return state == self._end
 
     def steps(self, state):
         """Returns the list of the steps from a state."""
@@ -71,8 +72,7 @@ class PageTask(Task):
 
     def are_states(self, values):
         """Tells whether all triples of a list are states."""
-        ends = (len(self.units), len(self.floats), len(self.lines))
-        return all([0 <= number <= end for value in values for number, end in zip(value, ends)])
+        return all([0 <= number <= end for value in values for number, end in zip(value, self._end)])
 
     def page_glue(self, a, b):
         """Returns the glue of the page from state a to state b."""
@@ -82,7 +82,7 @@ class PageTask(Task):
 
     def loose(self, b):
         """Tells whether a state is loose."""
-        return self._new_pages[b[0]] or self.is_end(b)
+        return self._new_pages[b[0]] or b == self._end
 
     def page_cost(self, a, b):
         """Returns the cost of the page from state a to state b, or None if there is no such page."""

@@ -1,5 +1,7 @@
 """Tails: what is known of the ends of a pages' task, kept for later tasks with the same ends."""
 
+from galleywork.ways import least_step
+
 
 class Solution:
     """What a pages' task gives that is solved with a Tails."""
@@ -29,16 +31,20 @@ class Tails:
         """Returns the Solution of a pages' task."""
         table = self._holding(task)
         steps = _reached_steps(task, table)
+        numbers = {}
         worked = 0
         # Each step leaves less, so the togo of the state behind it is known by then.
         for left in sorted(list(steps), key=sum):
-            if left not in table:
-                number = 0 if sum(left) == 0 else _least_step(steps[left], table)[0]
-                table[left] = (number, steps[left])
+            if left in table:
+                numbers[left] = table[left][0]
+            else:
+                numbers[left] = 0 if sum(left) == 0 else least_step(steps[left], numbers)[0]
+                table[left] = (numbers[left], steps[left])
                 worked += 1
         states = sorted([_state_of(task, left) for left in steps])
-        paper = tuple([(state, table[_left_at(task, state)][0]) for state in states])
-        return Solution(_first_way(task, table), paper, worked, Tails(task.units, task.floats, task.lines, table))
+        paper = tuple([(state, numbers[_left_at(task, state)]) for state in states])
+        way = _first_way(task, steps, numbers)
+        return Solution(way, paper, worked, Tails(task.units, task.floats, task.lines, table))
 
     def _holding(self, task):
         """Returns the dict of the entries that hold for a task."""
@@ -90,28 +96,17 @@ def _reached_steps(task, table):
 
 def _own_steps(task, left):
     """Returns the steps of a task where these numbers are left."""
-    return tuple([(cost, _left_at(task, after)) for cost, after in task.steps(_state_of(task, left))])
+    n, m, q = (len(task.units), len(task.floats), len(task.lines))
+    return tuple([(cost, (n - b, m - f, q - s)) for cost, (b, f, s) in task.steps(_state_of(task, left))])
 
 
-def _least_step(steps, table):
-    """Returns the least togo by one of the steps, and what is left behind the first such step."""
-    least = None
-    best = None
-    for cost, after in steps:
-        number = table[after][0]
-        if number is not None and (least is None or cost + number < least):
-            least = cost + number
-            best = after
-    return (least, best)
-
-
-def _first_way(task, table):
+def _first_way(task, steps, numbers):
     """Returns the first least way of a task, or None if there is no way."""
     left = _left_at(task, task.first())
-    if table[left][0] is None:
+    if numbers[left] is None:
         return None
     way = [_state_of(task, left)]
-    while not task.is_end(way[-1]):
-        left = _least_step(table[left][1], table)[1]
+    while sum(left) > 0:
+        left = least_step(steps[left], numbers)[1]
         way.append(_state_of(task, left))
     return tuple(way)

@@ -57,7 +57,7 @@ def togo(task):
     """Returns the dict from each reached state to the least cost of a way from it, or None."""
     numbers = {}
     for state in reversed(_by_rank(task)):
-        numbers[state] = 0 if task.is_end(state) else _least_step(task, state, numbers)[0]
+        numbers[state] = 0 if task.is_end(state) else least_step(task.steps(state), numbers)[0]
     return numbers
 
 
@@ -70,7 +70,7 @@ def solve(task):
         return (None, paper)
     way = [state]
     while not task.is_end(state):
-        state = _least_step(task, state, numbers)[1]
+        state = least_step(task.steps(state), numbers)[1]
         way.append(state)
     return (tuple(way), paper)
 
@@ -88,6 +88,18 @@ def way_cost(task, way):
     return total if task.is_end(way[-1]) else None
 
 
+def least_step(steps, numbers):
+    """Returns the least togo by one of the steps, and the next state of the first such step."""
+    least = None
+    best = None
+    for cost, after in steps:
+        number = numbers[after]
+        if number is not None and (least is None or cost + number < least):
+            least = cost + number
+            best = after
+    return (least, best)
+
+
 def _by_rank(task):
     """Returns the list of all reached states, those of lesser rank first."""
     # No step leads to a lesser rank, so nothing is added ahead of what is taken.
@@ -103,15 +115,3 @@ def _by_rank(task):
                 seen[after] = True
                 heappush(queue, (task.rank(after), after))
     return found
-
-
-def _least_step(task, state, numbers):
-    """Returns the least togo by a step from a state, and the next state of the first such step."""
-    least = None
-    best = None
-    for cost, after in task.steps(state):
-        number = numbers[after]
-        if number is not None and (least is None or cost + number < least):
-            least = cost + number
-            best = after
-    return (least, best)

@@ -45,10 +45,10 @@ class UnitTest(BuildCase):
         sheet = rich_sheet()
         works = Works(sheet)
         for text, inlines_at in (
-            ("one two\\mark{a} three office\\note{x}\\mark{b} banana tables end one end banana end", 1),
-            ("\\head{one two\\mark{a} three office\\note{x}\\mark{b} banana tables end one end}", 2),
-            ("\\item{one two\\mark{a} three office\\note{x}\\mark{b} banana tables end one end}", 2),
-            ("\\quote{one two\\mark{a} three office\\note{x}\\mark{b} banana tables end one end}", 1),
+            ("o\\mark{a}ne two\\mark{b} t\\mark{c}hree o\\mark{d}ffice\\note{x}\\mark{e} b\\mark{f}anana t\\mark{g}ables e\\mark{h}nd o\\mark{i}ne e\\mark{j}nd b\\mark{k}anana e\\mark{l}nd", 1),
+            ("\\head{o\\mark{a}ne two\\mark{b} t\\mark{c}hree o\\mark{d}ffice\\note{x}\\mark{e} b\\mark{f}anana t\\mark{g}ables e\\mark{h}nd o\\mark{i}ne e\\mark{j}nd b\\mark{k}anana e\\mark{l}nd}", 2),
+            ("\\item{o\\mark{a}ne two\\mark{b} t\\mark{c}hree o\\mark{d}ffice\\note{x}\\mark{e} b\\mark{f}anana t\\mark{g}ables e\\mark{h}nd o\\mark{i}ne e\\mark{j}nd b\\mark{k}anana e\\mark{l}nd}", 2),
+            ("\\quote{o\\mark{a}ne two\\mark{b} t\\mark{c}hree o\\mark{d}ffice\\note{x}\\mark{e} b\\mark{f}anana t\\mark{g}ables e\\mark{h}nd o\\mark{i}ne e\\mark{j}nd b\\mark{k}anana e\\mark{l}nd}", 1),
         ):
             block, = blocks_of(text)
             style = sheet.style_of(block[0])

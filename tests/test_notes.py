@@ -50,6 +50,11 @@ class NoteTest(Case):
         self.assertEqual([row[2] for row in rows], [("x", "y"), ("z",), ("u", "v", "w")])
         self.assertEqual(record, ("note", 6, found.way, found.paper))
 
+    def test_the_words_at_the_edges_of_lines(self):
+        works = Works(demo_sheet({"note": {"measure": 12}}))
+        rows, _ = self.rows(works, 1, "ab\\mark{p} a\\mark{q}b b\\mark{r} a\\mark{s}")
+        self.assertEqual([row[2] for row in rows], [("p",), ("q", "r"), ("s",)])
+
     def test_the_words_ahead_of_the_first_solid(self):
         works = Works(demo_sheet())
         self.assertEqual([row[2] for row in self.rows(works, 1, "\\mark{x}\\strong{\\mark{y}}a\\mark{x}")[0]], [("x", "y", "x")])
